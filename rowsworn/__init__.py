@@ -1,0 +1,1 @@
+"""Rowsworn: endless rows that recurrences tell."""

@@ -1,0 +1,65 @@
+"""Expressions that several tests use."""
+
+from tests.reference import pair, row
+
+THIRTY = 123456789012345678901234567890
+THIRTY_MORE = 987654321098765432109876543211
+
+NOTHING = row([], [])
+ONES = row([1], [1])
+HALVES = row(["-1/2"], ["3/4"])
+ONLY_FIRST = row([0], [5])
+FIBONACCI = row([1, 1], [0, 1])
+LATE = row([2, "1/3", 0], ["-1/6", 4, 7])
+LARGE = row([f"{THIRTY}/{THIRTY_MORE}", -THIRTY], [THIRTY_MORE, f"-7/{THIRTY}"])
+SIX = row([1, "-2/3", 0, "5/4", 2, "1/7"], ["1/2", 0, -3, "2/5", 1, 1])
+
+ROWS = {
+    "nothing": NOTHING,
+    "ones": ONES,
+    "halves": HALVES,
+    "only first": ONLY_FIRST,
+    "fibonacci": FIBONACCI,
+    "late": LATE,
+    "large": LARGE,
+    "six": SIX,
+}
+
+
+def made_from(e, f):
+    """Return at least one expression of each kind but row that is made from e and f."""
+    return [
+        ("sum", e, f),
+        ("product", e, f),
+        ("fold", e, f),
+        ("times", (0, 1), e),
+        ("times", (-3, 4), f),
+        ("shift", 0, e),
+        ("shift", 3, f),
+        ("put", (0, 1), e),
+        ("put", pair(f"-5/{THIRTY_MORE}"), f),
+        ("sums", e),
+        ("every", 1, 0, f),
+        ("every", 2, 3, e),
+        ("weave", (f,)),
+        ("weave", (e, f, e)),
+    ]
+
+
+def deep(levels):
+    """Return an expression that is as many levels deep, of alternating kinds."""
+    e = HALVES
+    for level in range(levels - 1):
+        makers = [
+            ("put", (level, 1), e),
+            ("sum", e, FIBONACCI),
+            ("shift", 1, e),
+            ("times", (-2, 3), e),
+            ("sums", e),
+            ("weave", (e, ONES)),
+            ("fold", e, ONLY_FIRST),
+            ("product", e, HALVES),
+            ("every", 2, 1, e),
+        ]
+        e = makers[level % len(makers)]
+    return e
