@@ -46,6 +46,17 @@ def made_from(e, f):
     ]
 
 
+def alone(place, x):
+    """Return the told row that has x at the place and 0 at all others."""
+    zeros = [0] * place
+    return row([0, *zeros], [*zeros, x])
+
+
+def apart(e, place, x="1/7"):
+    """Return a row that differs from the one of e at the place alone."""
+    return ("sum", e, alone(place, x))
+
+
 def deep(levels):
     """Return an expression that is as many levels deep, of alternating kinds."""
     e = HALVES

@@ -19,6 +19,18 @@ FUNCTIONS = {
         "over": ["x", "y"],
     },
     "rows": {"bound": ["e"], "values": ["e", "count"], "value": ["e", "place"]},
+    "keeping": {
+        "keeps": ["e", "recurrence"],
+        "determinant": ["e", "d"],
+        "is_shortest": ["e", "recurrence"],
+    },
+    "shortest": {
+        "shortest": ["e"],
+        "order_of": ["fractions"],
+        "recurrence_for": ["fractions"],
+        "is_forced": ["fractions"],
+    },
+    "judge": {"judge": ["e", "f"], "accepts": ["e", "f", "paper"]},
 }
 
 

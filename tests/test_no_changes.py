@@ -3,8 +3,11 @@
 import copy
 import unittest
 
+from rowsworn.judge import accepts, judge
+from rowsworn.keeping import determinant, is_shortest, keeps
 from rowsworn.rows import bound, value, values
-from tests.reference import row
+from rowsworn.shortest import is_forced, order_of, recurrence_for, shortest
+from tests.reference import pairs, row
 from tests.samples import FIBONACCI, LARGE, LATE, ROWS, made_from
 
 ALL = [*ROWS.values(), *made_from(LATE, FIBONACCI), *made_from(LARGE, LATE)]
@@ -45,7 +48,45 @@ class NoChangesTest(unittest.TestCase):
             values(e, 7)
             value(e, 7)
             bound(e)
+            shortest(e)
+            determinant(e, 2)
+            keeps(e, LATE[1])
+            is_shortest(e, LATE[1])
+            judge(e, FIBONACCI)
+            accepts(FIBONACCI, e, ("equal", LATE[1]))
+            accepts(e, FIBONACCI, ("differ", 3))
             self.assertEqual(e, before)
+
+    def test_no_list_of_first_values_is_modified(self):
+        lists = [[], [(0, 1)], list(pairs(0, 0, "1/2")), list(pairs(1, 2, 4, 9, "1/3", 0, 0))]
+        for fractions in [*lists, *[values(e, 9) for e in ALL]]:
+            before = copy.deepcopy(fractions)
+            recurrence_for(fractions)
+            order_of(fractions)
+            is_forced(fractions)
+            self.assertEqual(fractions, before)
+
+    def test_recurrences_and_papers_are_not_modified(self):
+        for recurrence in ((), pairs(1, 1), pairs(1, 1, 0), pairs("1/2", 7)):
+            before = copy.deepcopy(recurrence)
+            papers = [("equal", recurrence), ("differ", 5)]
+            for e in ALL:
+                keeps(e, recurrence)
+                is_shortest(e, recurrence)
+                for paper in papers:
+                    accepts(e, LATE, paper)
+            self.assertEqual(recurrence, before)
+            self.assertEqual(papers, [("equal", before), ("differ", 5)])
+
+    def test_a_second_call_tells_the_same(self):
+        for e in ALL:
+            found = values(e, 9)
+            first = (shortest(e), judge(e, LATE), determinant(e, 2), recurrence_for(found))
+            found.reverse()
+            found.clear()
+            found = values(e, 9)
+            second = (shortest(e), judge(e, LATE), determinant(e, 2), recurrence_for(found))
+            self.assertEqual(first, second, e)
 
     def test_numbers_of_hundreds_of_digits(self):
         large = 7 ** 400
