@@ -2,7 +2,8 @@
 
 from math import lcm
 
-from rowsworn.remainders import inverse, near_fraction, next_prime
+from rowsworn.primes import next_prime
+from rowsworn.remainders import inverse, near_fraction
 
 FIRST_PRIME = 2147483647
 

@@ -29,18 +29,3 @@ def near_fraction(x, m):
         high, low = low, high - many * low
         above, below = below, above - many * below
     return fraction(low, below)
-
-
-def next_prime(n):
-    """Return the least prime above n."""
-    found = max(n, 1) + 1
-    while not _is_prime(found):
-        found += 1
-    return found
-
-
-def _is_prime(n):
-    for divisor in range(2, isqrt(n) + 1):
-        if n % divisor == 0:
-            return False
-    return True

@@ -71,7 +71,7 @@ def _times_values(e, count):
 
 def _shift_values(e, count):
     _, k, within = e
-    return values(within, k + count)[k:]
+    return _values_at(within, k, 1, count)
 
 
 def _put_values(e, count):
@@ -91,7 +91,7 @@ def _sums_values(e, count):
 
 def _every_values(e, count):
     _, k, r, within = e
-    return values(within, k * (count - 1) + r + 1)[r::k]
+    return _values_at(within, r, k, count)
 
 
 def _weave_values(e, count):
@@ -120,10 +120,34 @@ def values(e, count):
     """Return the list of the values at the places 0 to count - 1."""
     if count == 0:
         return []
+    # Nothing within needs to be looked at then, however large it is.
+    if bound(e) == 0:
+        return [ZERO] * count
     reckon = VALUES_OF[e[0]]
     return reckon(e, count)
 
 
 def value(e, place):
     """Return the value at the place."""
-    return values(e, place + 1)[place]
+    return _values_at(e, place, 1, 1)[0]
+
+
+def _values_at(e, start, step, count):
+    """Return the list of the values at start, start + step and on, as many as count, above 0."""
+    if e[0] != "row" or bound(e) == 0:
+        return values(e, start + step * (count - 1) + 1)[start::step]
+    # The values of a growing row become long, so only those that tell the next ones are kept.
+    _, recurrence, first = e
+    latest = _walked(recurrence, first, start)
+    found = [latest[0]]
+    for _ in range(count - 1):
+        latest = _walked(recurrence, latest, step)
+        found.append(latest[0])
+    return found
+
+
+def _walked(recurrence, latest, places):
+    """Return the values so many places on, as many as the fractions of the recurrence."""
+    for _ in range(places):
+        latest = (*latest[1:], _paired(recurrence, latest[::-1]))
+    return latest

@@ -57,3 +57,8 @@ def told(e, n):
 def told_pairs(e, count):
     """Return the list of the values at the places 0 to count - 1 as tuples (p, q)."""
     return [pair(told(e, n)) for n in range(count)]
+
+
+def least_part(e, count):
+    """Return the least of so many places whose value is not whole, or None."""
+    return next((n for n in range(count) if told(e, n).denominator != 1), None)

@@ -2,9 +2,7 @@ import unittest
 
 from rowsworn.rows import value, values
 from tests.reference import pairs, row, told_pairs
-from tests.samples import FIBONACCI, HALVES, LATE, NOTHING, ONES, ROWS, deep, made_from
-
-COUNTING = row([2, -1], [0, 1])
+from tests.samples import COUNTING, FIBONACCI, HALVES, LATE, NOTHING, ONES, ROWS, deep, made_from
 
 
 def whole(*numbers):
@@ -43,6 +41,13 @@ class EachKindTest(unittest.TestCase):
 
     def test_shift(self):
         self.assertEqual(values(("shift", 3, FIBONACCI), 4), whole(2, 3, 5, 8))
+
+    def test_the_bound_0_with_large_numbers_within(self):
+        large = 10 ** 30
+        for e in (("shift", large, NOTHING), ("every", large, large, NOTHING), ("product", NOTHING, ("shift", large, ONES))):
+            self.assertEqual(values(e, 3), whole(0, 0, 0))
+            self.assertEqual(values(("sum", ONES, ("times", (1, 2), e)), 2), whole(1, 1))
+            self.assertEqual(values(e, 0), [])
 
     def test_shift_by_0(self):
         self.assertEqual(values(("shift", 0, FIBONACCI), 5), values(FIBONACCI, 5))

@@ -1,4 +1,4 @@
-"""Each name of the document's interface that has landed stands in its own file."""
+"""Each name of the document's interface stands in its own file."""
 
 import ast
 import inspect
@@ -31,6 +31,9 @@ FUNCTIONS = {
         "is_forced": ["fractions"],
     },
     "judge": {"judge": ["e", "f"], "accepts": ["e", "f", "paper"]},
+    "whole": {"first_part": ["e"], "remainder_at": ["e", "place", "m"]},
+    "periods": {"period": ["e", "m"], "period_holds": ["e", "m", "ahead", "length"]},
+    "texts": {"write_row": ["e"], "read_row": ["text"]},
 }
 
 

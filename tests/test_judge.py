@@ -6,11 +6,10 @@ from rowsworn.judge import accepts, judge
 from rowsworn.rows import value
 from tests.reference import pair, pairs, row, told
 from tests.samples import (
-    FIBONACCI, HALVES, LARGE, LATE, NOTHING, ONES, ONLY_FIRST, ROWS, SIX, alone, apart, deep, made_from,
+    COUNTING, FIBONACCI, HALVES, LARGE, LATE, NOTHING, ONES, ONLY_FIRST, ROWS, SIX,
+    alone, apart, deep, made_from,
 )
 from tests.solver import first_values, longer, row_keeps
-
-COUNTING = row([2, -1], [0, 1])
 
 # Each tuple tells one row in several ways.
 SAME = [

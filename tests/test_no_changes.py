@@ -3,14 +3,32 @@
 import copy
 import unittest
 
+from rowsworn.errors import NotWhole
 from rowsworn.judge import accepts, judge
 from rowsworn.keeping import determinant, is_shortest, keeps
+from rowsworn.periods import period, period_holds
 from rowsworn.rows import bound, value, values
 from rowsworn.shortest import is_forced, order_of, recurrence_for, shortest
+from rowsworn.texts import read_row, write_row
+from rowsworn.whole import first_part, remainder_at
 from tests.reference import pairs, row
-from tests.samples import FIBONACCI, LARGE, LATE, ROWS, made_from
+from tests.samples import COUNTING, FIBONACCI, LARGE, LATE, ROWS, WHOLE, made_from
 
-ALL = [*ROWS.values(), *made_from(LATE, FIBONACCI), *made_from(LARGE, LATE)]
+ALL = [
+    *ROWS.values(), *WHOLE.values(), *made_from(LATE, FIBONACCI), *made_from(LARGE, LATE), *made_from(COUNTING, FIBONACCI),
+]
+
+
+def of_remainders(e):
+    """Return what the functions tell that raise NotWhole, or its place."""
+    try:
+        ahead, length = period(e, 6)
+        return (
+            [remainder_at(e, place, 10) for place in (0, 3, 10 ** 50)], (ahead, length),
+            period_holds(e, 6, ahead, length), period_holds(e, 6, ahead, 2 * length),
+        )
+    except NotWhole as error:
+        return error.place
 
 
 class NoChangesTest(unittest.TestCase):
@@ -55,6 +73,9 @@ class NoChangesTest(unittest.TestCase):
             judge(e, FIBONACCI)
             accepts(FIBONACCI, e, ("equal", LATE[1]))
             accepts(e, FIBONACCI, ("differ", 3))
+            first_part(e)
+            of_remainders(e)
+            write_row(e)
             self.assertEqual(e, before)
 
     def test_no_list_of_first_values_is_modified(self):
@@ -82,11 +103,31 @@ class NoChangesTest(unittest.TestCase):
         for e in ALL:
             found = values(e, 9)
             first = (shortest(e), judge(e, LATE), determinant(e, 2), recurrence_for(found))
+            more = (first_part(e), of_remainders(e), write_row(e))
             found.reverse()
             found.clear()
             found = values(e, 9)
             second = (shortest(e), judge(e, LATE), determinant(e, 2), recurrence_for(found))
             self.assertEqual(first, second, e)
+            self.assertEqual((first_part(e), of_remainders(e), write_row(e)), more, e)
+
+    def test_a_changed_list_has_no_effect_on_remainders_and_texts(self):
+        for e in ALL:
+            before = (first_part(e), of_remainders(e), write_row(e))
+            found = values(e, 12)
+            found[0] = (1, 7)
+            found.reverse()
+            values(e, 3).clear()
+            self.assertEqual((first_part(e), of_remainders(e), write_row(e)), before, e)
+
+    def test_an_expression_that_was_read_twice(self):
+        for e in WHOLE.values():
+            text = write_row(e)
+            first = read_row(text)
+            found = values(first, 5)
+            found.clear()
+            self.assertEqual(read_row(text), first)
+            self.assertEqual(of_remainders(first), of_remainders(e))
 
     def test_numbers_of_hundreds_of_digits(self):
         large = 7 ** 400

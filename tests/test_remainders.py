@@ -5,7 +5,7 @@ from fractions import Fraction
 from math import gcd, isqrt
 
 from rowsworn.finding import find_recurrence, list_keeps, over_one_divisor
-from rowsworn.remainders import inverse, near_fraction, next_prime
+from rowsworn.remainders import inverse, near_fraction
 from tests.reference import pair, pairs
 
 
@@ -35,15 +35,6 @@ class RemaindersTest(unittest.TestCase):
             for x in range(m):
                 p, q = near_fraction(x, m)
                 self.assertEqual(pair(Fraction(p, q)), (p, q))
-
-    def test_next_prime(self):
-        found = []
-        n = -5
-        while n < 100:
-            n = next_prime(n)
-            found.append(n)
-        self.assertEqual(found, [n for n in range(2, 102) if all(n % d for d in range(2, n))])
-        self.assertEqual(next_prime(2 ** 31 - 1), 2 ** 31 + 11)
 
 
 class FindingTest(unittest.TestCase):
