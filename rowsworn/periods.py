@@ -4,15 +4,16 @@ from rowsworn.primes import least_prime_of, primes_up_to, without
 from rowsworn.strides import Strides
 from rowsworn.whole import whole_numbers
 
-SMALL = 10000
+SMALL = 20000
 
 
 def period(e, m):
     """Return the period of the row modulo m."""
     factors, first = whole_numbers(e)
     strides = Strides(factors, m)
-    # Modulo the power k of a prime, what does not come back of d values is 0 behind d * k
-    # places, and k is less than the number of the binary digits of m.
+    # Modulo the power k of a prime, a row that keeps d integers is the sum of one that comes
+    # round from the start and one that is 0 behind d * k places; m has more binary digits
+    # than k tells.
     settled = len(factors) * m.bit_length()
     window = strides.taken(first, strides.stride(settled))
     length, round_trip = 1, strides.stride(1)

@@ -125,6 +125,7 @@ class PeriodTest(unittest.TestCase):
         self.assertEqual(period(row([5], [1]), 2 ** 90), (0, 2 ** 88))
         self.assertEqual(period(row([5], [1]), 10 ** 9 + 7), (0, 10 ** 9 + 6))
         self.assertEqual(period(row([10], [1]), 10 ** 50), (50, 1))
+        self.assertEqual(period(row([10008], [1]), 10007 ** 25), (0, 10007 ** 24))
         self.assertEqual(period(row([6], [1]), 2 ** 70 * 7 ** 3), (70, 14 * 7))
 
     def test_short_periods_modulo_great_numbers(self):
